@@ -1,0 +1,1 @@
+"""Webs of places that say yes or no, with pulls, computed exactly."""
