@@ -1,0 +1,156 @@
+"""The interface: its names, arguments and kinds, each defined in its own file; and what [1] says of all arguments."""
+
+import copy
+import importlib
+import inspect
+import unittest
+
+import leanwebs.errors
+from tests.helper import HALF, Case
+
+FUNCTIONS = {
+    "ratios": ("ratio_of(number)", "plus(one, other)", "minus(one, other)", "times(one, other)", "over(one, other)",
+               "sign_of(one)", "at_most(one, other)", "odds_of(one)"),
+    "lots": ("lot_of(lot, many)", "joined(lot, other)", "lots(many)", "even_lots(many)", "sayings(many)",
+             "saying_of(saying, many)", "contrary(saying)", "sign_at(saying, lot)", "parting_of(parting, places)"),
+    "webs": (),
+    "pieces": ("pieces(web)", "hangs(web)", "hangs_within(web, lot)", "need_positive(web)", "need_not_below(web)",
+               "need_hanging(web)"),
+    "sums": ("weight(web, saying)", "total(web)", "chance(web, saying)", "mean(web, lot, *, floor=None)", "means(web)",
+             "count_yes(web)"),
+    "spreads": ("spread_of_means(many, rows)", "unlike_boxes(spread)", "is_webs(spread)", "squares(spread)"),
+    "texts": ("web_text(web)", "web_from(text)"),
+    "bundles": ("bundle_of(web, bundle)", "odd_ends(web, bundle)", "product_of(web, bundle)", "is_ringless(web, bundle)",
+                "bundles_with(web, lot)", "bundle_sum(web, lot)"),
+    "clusters": ("clusters(web, bundle)", "fits(web, bundle)", "sign_given(web, bundle, lot)",
+                 "cluster_weight(web, bundle)", "cluster_chances(web)"),
+    "joints": ("saying_and_clusters(web, saying, bundle)", "inner_and_clusters(web, inner, bundle, *, lot=())",
+               "clusters_from_saying(web, saying)", "sayings_from_clusters(web, bundle)",
+               "clusters_from_inner(web, inner)", "inners_from_clusters(web, bundle, *, lot=())"),
+    "toldties": ("told_inner(web, ties, inner, *, lot=())", "told_clusters(web, ties, inner, *, lot=())",
+                 "tie_chances(web, number)"),
+    "doubled": ("doubled_weight(web, lot, bundle)", "weights_seen(web, lot, watched)"),
+    "along": ("cross_ratio(four)", "fourth(points, pull)"),
+    "odds": ("tie_factor(pull, other)", "factor(web, other)", "odds_moved(web, other, lot)"),
+}
+CLASSES = {
+    ("webs", "Web"): ("__init__(self, many, ties)", "pull(self, number)", "ends(self, number)",
+                      "with_pull(self, number, pull)", "with_tie(self, u, v, pull)", "without(self, bundle)",
+                      "only(self, bundle)", "contrary(self, bundle)", "turned(self, lot)", "glued(self, parting)",
+                      "merged(self)", "line(*pulls)", "ring(*pulls)", "star(*pulls)", "__add__(self, other)",
+                      "__neg__(self)", "__eq__(self, other)", "__len__(self)", "__getitem__(self, at)",
+                      "__iter__(self)", "__contains__(self, x)"),
+    ("spreads", "Spread"): ("__init__(self, rows)", "of(web)", "chance(self, saying)", "mean(self, lot)",
+                            "left_out(self, lot)", "box(self, u, v, saying)", "__eq__(self, other)"),
+    ("along", "Along"): ("__init__(self, web, number, lot)", "__call__(self, pull)", "slope(self, pull)",
+                         "cross(self, pulls)"),
+}
+PROPERTIES = {("webs", "Web"): ("shape", "positive"), ("along", "Along"): ("course",)}
+
+
+def module_of(name):
+    return importlib.import_module("leanwebs." + name)
+
+
+class TestInterface(Case):
+    def test_functions(self):
+        for name, rows in FUNCTIONS.items():
+            for row in rows:
+                with self.subTest(row):
+                    found = getattr(module_of(name), row.split("(")[0])
+                    self.assertTrue(inspect.isfunction(found))
+                    self.assertEqual(found.__module__, "leanwebs." + name)
+                    self.assertEqual(found.__name__ + str(inspect.signature(found)), row)
+
+    def test_classes(self):
+        for (name, title), rows in CLASSES.items():
+            made = getattr(module_of(name), title)
+            self.assertEqual((made.__module__, made.__name__), ("leanwebs." + name, title))
+            for row in rows:
+                with self.subTest(row):
+                    word = row.split("(")[0]
+                    self.assertIn(word, vars(made))
+                    self.assertEqual(word + str(inspect.signature(getattr(made, word))), row)
+            for word in PROPERTIES.get((name, title), ()):
+                self.assertIsInstance(vars(made)[word], property)
+
+    def test_errors_have_the_one_file(self):
+        for name in FUNCTIONS:
+            for word, value in vars(module_of(name)).items():
+                if inspect.isclass(value) and issubclass(value, Exception):
+                    self.assertIs(value, getattr(leanwebs.errors, word))
+
+
+def calls():
+    """A call of each function and method that takes lists, with lists in no order and in no lowest terms."""
+    found = {name: module_of(name) for name in FUNCTIONS}
+    web = found["webs"].Web(4, [[0, 1, [2, 4]], [1, 2, [3, 9]], [2, 3, [1, 4]], [3, 0, 0]])
+    spread = found["spreads"].Spread([[2, 8], HALF, HALF, [2, 8]][:1] * 4)
+    along = found["along"].Along(web, 0, [1, 0])
+    lots, joints, told = found["lots"], found["joints"], found["toldties"]
+    even, bundle, saying, parting = [1, 0], [2, 0], [1, -1, 1, 1], [[3, 1], [2, 0]]
+    return (
+        (lots.lot_of, even, 4), (lots.joined, even, [3, 1]), (lots.saying_of, saying, 4), (lots.contrary, saying),
+        (lots.sign_at, saying, even), (lots.parting_of, parting, [3, 2, 1, 0]),
+        (found["webs"].Web, 2, [[1, 0, [2, 4]]]), (found["webs"].Web.line, [2, 4], [3, 9]),
+        (found["webs"].Web.ring, [2, 4], [3, 9]), (found["webs"].Web.star, [2, 4], [3, 9]), (web.with_pull, 0, [3, 9]),
+        (web.with_tie, 0, 1, [3, 9]), (web.without, bundle), (web.only, bundle), (web.contrary, bundle),
+        (web.turned, even), (web.glued, parting),
+        (found["pieces"].hangs_within, web, even), (found["sums"].weight, web, saying),
+        (found["sums"].chance, web, saying), (found["sums"].mean, web, even),
+        (found["spreads"].Spread, [[2, 4], [2, 4]]), (found["spreads"].spread_of_means, 2, [[[1, 0], [2, 4]]]),
+        (spread.chance, [1, -1]), (spread.mean, even), (spread.left_out, [1]), (spread.box, 0, 1, [1, -1]),
+        (found["bundles"].bundle_of, web, bundle), (found["bundles"].odd_ends, web, bundle),
+        (found["bundles"].product_of, web, bundle), (found["bundles"].is_ringless, web, bundle),
+        (found["bundles"].bundles_with, web, even), (found["bundles"].bundle_sum, web, even),
+        (found["clusters"].clusters, web, bundle), (found["clusters"].fits, web, bundle),
+        (found["clusters"].sign_given, web, bundle, even), (found["clusters"].cluster_weight, web, bundle),
+        (joints.saying_and_clusters, web, saying, bundle), (joints.inner_and_clusters, web, bundle, bundle),
+        (joints.clusters_from_saying, web, saying), (joints.sayings_from_clusters, web, bundle),
+        (joints.clusters_from_inner, web, bundle), (joints.inners_from_clusters, web, bundle),
+        (told.told_inner, web, bundle, [2]), (told.told_clusters, web, bundle, [2]),
+        (found["doubled"].doubled_weight, web, even, bundle), (found["doubled"].weights_seen, web, even, [3, 0]),
+        (found["along"].Along, web, 0, even), (along, [2, 6]), (along.slope, [2, 6]),
+        (along.cross, [[2, 4], [3, 9], 0, [-2, 4]]), (found["along"].cross_ratio, [[2, 4], [3, 9], 0, [-2, 4]]),
+        (found["along"].fourth, [[0, [2, 4]], [1, [3, 9]], [2, 0]], [4, 2]),
+        (found["odds"].tie_factor, [2, 4], [3, 9]), (found["odds"].odds_moved, web, web, even))
+
+
+class TestArguments(Case):
+    def test_no_argument_is_changed(self):
+        for call, *arguments in calls():
+            name = getattr(call, "__qualname__", "along")
+            with self.subTest(name):
+                kept = [copy.deepcopy(one) for one in arguments]
+                first = call(*arguments)
+                self.assertEqual(arguments, kept)
+                again = call(*arguments)
+                if isinstance(first, (tuple, list, int)):
+                    self.same(again, first)
+                if isinstance(first, list):
+                    self.assertIsNot(first, again)
+
+    def test_tuples_do_as_well(self):
+        def frozen(value):
+            return tuple(frozen(one) for one in value) if isinstance(value, list) else value
+
+        for call, *arguments in calls():
+            with self.subTest(getattr(call, "__qualname__", "along")):
+                first, other = call(*arguments), call(*[frozen(one) for one in arguments])
+                if hasattr(first, "course"):
+                    first, other = (first.a, first.b, first.c), (other.a, other.b, other.c)
+                self.assertEqual(first, other)
+
+    def test_keywords(self):
+        found = {name: module_of(name) for name in FUNCTIONS}
+        web = found["webs"].Web.ring(HALF, HALF, HALF)
+        lot = [1, 0]
+        found["joints"].inner_and_clusters(web, [0], [0], lot=lot)
+        found["joints"].inners_from_clusters(web, [0], lot=lot)
+        found["toldties"].told_inner(web, [0], [0], lot=lot)
+        found["toldties"].told_clusters(web, [0], [0], lot=lot)
+        self.assertEqual(lot, [1, 0])
+
+
+if __name__ == "__main__":
+    unittest.main()
