@@ -123,11 +123,8 @@ def spread_of_means(many, rows):
     found = [0 for _ in range(1 << places)]
     for lot, top in zip(told, tops):
         found[index_of_no(lot, places)] = top
-    sums = signed_sums(found)
-    for at, top in enumerate(sums):
-        if top <= 0:
-            raise BadSpread(at)
-    return Spread([lowest(top, bottom << places) for top in sums])
+    # The spread itself raises BadSpread for the first chance that is not above 0.
+    return Spread([lowest(top, bottom << places) for top in signed_sums(found)])
 
 
 def pairs_of(many):
