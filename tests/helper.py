@@ -61,6 +61,21 @@ NOT_BELOW = (
     Web.ring(HALF, (1, 3)), Web.ring(HALF, HALF, HALF), Web.star(HALF, (1, 3), (2, 5)),
     Web(4, [(0, 1, HALF), (1, 0, (1, 3)), (2, 3, (1, 4)), (3, 3, (1, 5))]),
 ) + tuple(Numbers(seed).web(1 + seed % 4, seed % 6, 0) for seed in range(20, 30))
+# Positive webs that hang together, of at most 6 places and 9 ties.
+LEAN = (
+    Web(1, []), Web(1, [(0, 0, (1, 3))]), Web.line(HALF), Web(2, [(1, 0, HALF), (0, 1, (1, 3)), (1, 1, (1, 5))]),
+    Web.line(HALF, (1, 3)), Web.ring(HALF, (1, 3), (1, 4)), Web(3, [(2, 0, HALF), (1, 0, (2, 3)), (0, 1, (1, 9))]),
+    Web.line(HALF, (1, 3), (1, 4)), Web.star(HALF, (1, 3), (1, 4)), Web.ring(HALF, HALF, HALF, HALF),
+    Web(4, [(3, 0, HALF), (0, 2, (1, 3)), (2, 1, (2, 5)), (1, 3, (1, 4)), (0, 1, (1, 7))]),
+    Web(4, [(u, v, (1, 2 + u + v)) for u in range(4) for v in range(u)]),
+    Web.star(HALF, (1, 3), (1, 4), (2, 3)), Web.line(HALF, HALF, (1, 3), (1, 4)),
+    Web(5, [(0, 1, HALF), (1, 2, HALF), (2, 0, (1, 4)), (2, 3, (1, 3)), (3, 4, (3, 4)), (4, 2, (1, 5))]),
+    Web(5, [(0, 2, HALF), (0, 3, (1, 3)), (0, 4, (1, 4)), (1, 2, (1, 5)), (1, 3, (2, 3)), (4, 1, (1, 2))]),
+    Web(5, [(2, 0, HALF), (0, 1, HALF), (1, 3, (1, 3)), (3, 4, HALF), (4, 0, (1, 4)), (3, 3, (1, 5)), (1, 4, (1, 6))]),
+    Web(6, [(0, 1, HALF), (1, 2, (1, 3)), (2, 0, HALF), (3, 4, (1, 4)), (4, 5, HALF), (5, 3, (1, 5)), (0, 3, (2, 3)),
+            (1, 4, HALF), (2, 5, (1, 6))]),
+    Web(6, [(0, 1, HALF), (1, 2, (1, 3)), (2, 3, HALF), (3, 4, (1, 4)), (4, 5, HALF), (5, 0, (1, 5)), (1, 0, (1, 7))]),
+)
 WIDE = Web(10, [(k, (3 * k + 1) % 10, (2 * k - 9, 11)) for k in range(10)])
 
 
@@ -163,6 +178,61 @@ def all_partings(places):
     return sorted(found)
 
 
+def ways_told(web, u, v, by_shape=False):
+    """All ways from u to v as tuples (way, places), the lesser first."""
+    found = []
+
+    def walk(way, places):
+        if places[-1] == v:
+            found.append((way, places))
+            return
+        for number, (a, b, t) in enumerate(web.ties):
+            for here, there in ((a, b), (b, a)):
+                if here == places[-1] and there not in places and (by_shape or t != (0, 1)):
+                    walk(way + (number,), places + (there,))
+
+    walk((), (u,))
+    return sorted(found)
+
+
+def hangs_told(web, places, by_shape=False):
+    """Whether the places hang together by ties with both ends among them."""
+    pairs = [(u, v) for u, v, t in web.ties if u in places and v in places and (by_shape or t != (0, 1))]
+    return len(parts_of(places, pairs)) == 1
+
+
+def halves_told(many):
+    """The halves without place 0 of all halvings, in order."""
+    return [half for half in all_subsets(range(1, many)) if half]
+
+
+def hanging_told(web):
+    """The hanging halvings, in order."""
+    return [half for half in halves_told(web.many) if hangs_told(web, half, True)
+            and hangs_told(web, [place for place in range(web.many) if place not in half], True)]
+
+
+def odd_for(half, lot):
+    return len(set(half) & set(lot)) % 2 == 1
+
+
+def fours_of(many):
+    """All lots of four places."""
+    return list(itertools.combinations(range(many), 4))
+
+
+def pairs_of(many):
+    return list(itertools.combinations(range(many), 2))
+
+
+def means_told(web):
+    """The means of all even lots, as fractions."""
+    weights = [(saying, weight_of(web, saying)) for saying in all_sayings(web.many)]
+    whole = sum(weight for _, weight in weights)
+    return {lot: sum(weight * sign_of_lot(saying, lot) for saying, weight in weights) / whole
+            for lot in all_even(web.many)}
+
+
 class Case(unittest.TestCase):
     """A test that can ask for an error with its attributes."""
 
@@ -188,6 +258,19 @@ class Case(unittest.TestCase):
                 self.plain(entry)
 
 
+def no_places(many):
+    """None of these is one of so many places."""
+    return NO_INTEGERS + (-1, many, 10 ** 20)
+
+
+def no_rows(many, length):
+    """None of these is a row of just so many of the places."""
+    row = list(range(length))
+    found = [one for one in NO_LISTS if one is not None] + [None, row[1:], tuple(row) + (length,)]
+    found += [row[:at] + [place] + row[at + 1:] for at in range(length) for place in no_places(many)]
+    return found + [row[:-1] + [0], [1] + row[1:]]
+
+
 class MyInt(int):
     """An integer of a subclass."""
 
@@ -205,6 +288,8 @@ NO_INTEGERS = (True, False, None, "1", 1.0, (1,), [1], Fraction(1))
 # None of these is a ratio.
 NO_RATIOS = (True, False, None, "1/2", 0.5, Fraction(1, 2), (), (1,), (1, 2, 3), (1, 0), (1, -2), (0, 0), (True, 2),
              (1, True), (1.0, 2), (1, 2.0), ("1", 2), [1], [1, 0], [None, 1], {1: 1, 2: 2})
+# None of these is a tuple or a list.
+NO_LISTS = (None, 0, "0123", {0: 1, 1: 2, 2: 3}, {0, 1, 2, 3}, range(4), (entry for entry in (0, 1)))
 # None of these is a row of distinct integers >= 0.
 NO_NUMBERS = (None, 0, "01", {0: 1}, {0, 1}, (0, 0), [1, 0, 1], (-1,), (True,), (False, 1), (0, "1"), (0.0,), ((0,),),
               [[0]], (None,), range(2))

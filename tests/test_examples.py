@@ -1,4 +1,4 @@
-"""The examples of the document for the modules there are, in [15], [22] and [41]."""
+"""The examples of the document for the modules there are, in [15], [22], [41], [54], [71] and [85]."""
 
 import unittest
 
@@ -39,6 +39,81 @@ from leanwebs.along import Along
 one = Along(Web.ring((1, 2), (1, 2), (1, 3)), 2, (0, 1))
 (one((1, 3)), one.slope(0), one.course, one.cross([0, (1, 2), (-1, 2), (1, 3)]))""",
      "((8, 13), (3, 8), 'rises', (-1, 4))"),
+    ("""from leanwebs.webs import Web
+from leanwebs.stretches import Stretches, ends
+told = Stretches([((1, 4), (1, 2)), (0, (1, 2))])
+ends(Web.line(0, 0), told, [((0, 2), 1), ((0, 1), -1)])""",
+     "((-1, 2), (0,), (-1, 8), (1,))"),
+    ("""from leanwebs.webs import Web
+from leanwebs.balance import minus_ring, signs_saying
+one, two = Web.ring((1, 2), (1, 2), (-1, 2)), Web.ring((1, 2), (-1, 2), (-1, 3))
+(minus_ring(one), signs_saying(one), minus_ring(two), signs_saying(two))""",
+     "((0, 1, 2), None, None, (1, 1, -1))"),
+    ("""from leanwebs.webs import Web
+from leanwebs.leaving import gap, left_web, touched
+line = Web.line((1, 2), (1, 3))
+(left_web(line, 1).ties, touched(line, (0, 2)), gap([(1, 2), (1, 2), (1, 2), (1, 2)]))""",
+     "(((0, 1, (1, 6)),), (((0,), (1,)), ((2,), (1,))), ((29889, 65536), (50625, 65536)))"),
+    ("""from leanwebs.stars import star_squares, triangle_doubles, triangle_squares
+means = ((1, 4), (1, 6), (1, 6))
+(star_squares(*means), triangle_doubles((1, 2), (1, 2), (1, 3)), triangle_squares(*means)[0])""",
+     "(((1, 4), (1, 4), (1, 9)), ((64, 145), (4, 15), (4, 15)), (209, 81))"),
+    ("""from leanwebs.webs import Web
+from leanwebs.stars import four_star
+from leanwebs.swaps import laid
+made = laid(Web.line((1, 2)), Web.line((1, 3), (1, 5)), (1, 0))
+(four_star(Web.star((1, 2), (1, 3), (1, 5)), (0, 1, 2, 3)), made.many, made.ties)""",
+     "(((1, 1), (1, 4), (1, 9), (1, 25)), 3, ((0, 1, (1, 2)), (1, 0, (1, 3)), (0, 2, (1, 5))))"),
+    ("""from leanwebs.webs import Web
+from leanwebs.ways import ways, apart, cutting_place
+web = Web.ring((1, 2), (1, 2), (1, 2), (1, 2))
+(ways(web, 0, 2), apart(web, (0, 1), (2, 3)), apart(web, (0, 2), (1, 3)), cutting_place(web, (0, 1), (2, 3)))""",
+     "([(0, 1), (3, 2)], ((0,), (2,)), None, None)"),
+    ("""from leanwebs.webs import Web
+from leanwebs.excess import excess, excess_parts
+from leanwebs.halves import odd_halving
+web = Web.ring((1, 2), (1, 2), (1, 2))
+(excess(web, (0, 1), (1, 2)), excess_parts(web, (0, 1), (1, 2)), odd_halving(web, (0, 1), (1, 2)))""",
+     "((2, 9), [((1,), (2, 9))], (1,))"),
+    ("""from leanwebs.webs import Web
+from leanwebs.signs import sign_kept, way_bounds
+from leanwebs.sums import mean
+web = Web.ring((1, 2), (1, 2), (1, 2))
+other = web.contrary((2,))
+(sign_kept(web, other, (0, 1)), mean(web, (0, 1)), mean(other, (0, 1)), way_bounds(web, 0, 1))""",
+     "(0, (2, 3), (2, 7), ((1, 2), (3, 4)))"),
+    ("""from leanwebs.webs import Web
+from leanwebs.cutsums import cut_sum, is_cut, least_met
+web = Web.ring((1, 2), (1, 2), (1, 2), (1, 2))
+(cut_sum(web, 0, 2, (1, 3)), is_cut(web, (1,), 0, 2), least_met(web, (1, 3), 0, 2), least_met(web, (0, 1, 2), 0, 2))""",
+     "((200, 289), False, 1, 2)"),
+    ("""from leanwebs.webs import Web
+from leanwebs.fours import four_of
+from leanwebs.hinges import by_way_of, lean_gap, parts_three
+web = Web.ring((1, 2), (1, 2), (1, 2), (1, 2))
+four = four_of(web, (0, 1, 2, 3))
+(four.links, four.knot, by_way_of(web, 0, (1, 2, 3)), lean_gap(web, 0, (1, 2, 3)), parts_three(web, 0, (1, 2, 3)))""",
+     "(((36, 289), (0, 1), (36, 289)), (64, 289), (800, 4913), (-576, 4913), False)"),
+    ("""from leanwebs.webs import Web
+from leanwebs.blockweights import block_weights
+web = Web.ring((1, 2), (1, 2), (1, 2), (1, 2))
+block_weights(web, (0, 1, 2, 3))""",
+     "[(((0, 1), (2, 3)), (36, 289)), (((0, 1, 2, 3),), (64, 289)), (((0, 3), (1, 2)), (36, 289))]"),
+    ("""from leanwebs.webs import Web
+from leanwebs.rows import crossing_four
+web = Web.ring((1, 2), (1, 2), (1, 2), (1, 2))
+(crossing_four(web, (0, 1, 2, 3)), crossing_four(web, (0, 2, 1, 3)))""",
+     "(None, (0, 2, 1, 3))"),
+    ("""from leanwebs.webs import Web
+from leanwebs.rows import off, pairings_of
+web = Web.ring((1, 2), (1, 2), (1, 2), (1, 2))
+(pairings_of(web, (0, 2, 1, 3), (0, 1, 2, 3)), off(web, (0, 2, 1, 3), (0, 1, 2, 3)))""",
+     "((64, 289), (-72, 289))"),
+    ("""from leanwebs.webs import Web
+from leanwebs.rows import row_by_pairing, signed_pairings
+web = Web.ring((1, 2), (1, 2), (1, 2), (1, 2))
+(signed_pairings([[1, 2, 3], [4, 5], [6], []]), row_by_pairing(web, (0, 2), (1, -1)))""",
+     "((8, 1), (9, 68))"),
 )
 
 

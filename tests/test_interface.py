@@ -32,6 +32,27 @@ FUNCTIONS = {
     "doubled": ("doubled_weight(web, lot, bundle)", "weights_seen(web, lot, watched)"),
     "along": ("cross_ratio(four)", "fourth(points, pull)"),
     "odds": ("tie_factor(pull, other)", "factor(web, other)", "odds_moved(web, other, lot)"),
+    "stretches": ("corners(web, stretches)", "ends(web, stretches, rows)", "holds_within(web, stretches, rows)"),
+    "balance": ("minus_ring(web)", "signs_saying(web)", "beyond(web)"),
+    "moves": ("both_greater(web, other)", "told_by_ties(web, other)"),
+    "leaving": ("arms(web, place)", "left_web(web, place)", "gap(pulls)", "touched(web, lot)", "always_webs(web, lot)",
+                "spoiling_pulls(web, lot)"),
+    "stars": ("triangle_squares(m12, m13, m23)", "star_squares(m12, m13, m23)", "star_means(t1, t2, t3)",
+              "triangle_doubles(t1, t2, t3)", "double_pull(pull)", "square_of_double(double)", "four_star(web, four)"),
+    "swaps": ("as_tie(web, u, v)", "laid(web, part, places)", "same_rim(one, other, many)"),
+    "ways": ("ways(web, u, v, *, most=2000)", "places_along(web, u, way)", "apart(web, pair, other)",
+             "linked(web, pair, other)", "cuts(web, x, u, w)", "cutting_place(web, pair, other)", "cuts_all(web, four)"),
+    "halves": ("halvings(web)", "odd_halving(web, lot, other)", "tie_halving(web, number, lot)"),
+    "excess": ("excess(web, lot, other)", "excess_parts(web, lot, other)"),
+    "signs": ("forests(web, lot)", "sign_kept(web, other, lot)", "way_bounds(web, u, v)"),
+    "cutsums": ("cut_sum(web, u, w, lot)", "is_cut(web, lot, u, w)", "least_met(web, lot, u, w)",
+                "uncut_web(web, lot, u, w)"),
+    "fours": ("four_of(web, four)", "four_in(spread, four)", "greatest_product(four)", "is_cut_two(four)"),
+    "blockweights": ("block_weights(web, lot)", "hosts(web, parting)", "product_from(web, lot, part)"),
+    "rows": ("crossing_four(web, row)", "is_smooth(web, row)", "pair_means(web, row)", "signed_pairings(table)",
+             "pairings_of(web, row, lot)", "off(web, row, lot)", "off_by_blocks(web, row, lot)",
+             "row_chance(web, row, said)", "row_by_pairing(web, row, said)"),
+    "hinges": ("by_way_of(web, hinge, three)", "parts_three(web, hinge, three)", "lean_gap(web, hinge, three)"),
 }
 CLASSES = {
     ("webs", "Web"): ("__init__(self, many, ties)", "pull(self, number)", "ends(self, number)",
@@ -44,6 +65,9 @@ CLASSES = {
                             "left_out(self, lot)", "box(self, u, v, saying)", "__eq__(self, other)"),
     ("along", "Along"): ("__init__(self, web, number, lot)", "__call__(self, pull)", "slope(self, pull)",
                          "cross(self, pulls)"),
+    ("stretches", "Stretches"): ("__init__(self, rows)", "agrees(self, web)", "lows(self, web)", "highs(self, web)",
+                                 "sizes_low(self, web)", "sizes_high(self, web)"),
+    ("fours", "Four"): ("__init__(self, seven)", "by_way(self, k)", "swapped(self, order)"),
 }
 PROPERTIES = {("webs", "Web"): ("shape", "positive"), ("along", "Along"): ("course",)}
 
@@ -116,15 +140,55 @@ def calls():
         (found["odds"].tie_factor, [2, 4], [3, 9]), (found["odds"].odds_moved, web, web, even))
 
 
+def later_calls():
+    """The same for the modules from stretches on."""
+    found = {name: module_of(name) for name in FUNCTIONS}
+    web = found["webs"].Web(5, [[0, 1, [2, 4]], [1, 2, [3, 9]], [2, 3, [1, 4]], [3, 0, [2, 9]], [3, 4, [2, 4]]])
+    told = found["stretches"].Stretches([[0, [2, 4]], [[3, 9], [2, 4]], [0, 0], [0, [2, 4]], [0, 0]])
+    spread, four = found["spreads"].Spread.of(web), found["fours"].Four([[2, 4], 0, [3, 9], 1, 1, 1, [6, 4]])
+    even, other, rows, row = [1, 0], [3, 1], [[[1, 0], [2, 4]], [[], -1]], [3, 0, 2, 1]
+    return (
+        (found["stretches"].Stretches, [[0, [2, 4]], [[3, 9], [2, 4]]]), (found["stretches"].ends, web, told, rows),
+        (found["stretches"].holds_within, web, told, rows), (found["leaving"].gap, [[2, 4], [3, 9], 0, [1, 4]]),
+        (found["leaving"].touched, web, other), (found["leaving"].always_webs, web, other),
+        (found["leaving"].spoiling_pulls, web, other), (found["stars"].triangle_squares, [2, 4], [3, 9], [2, 8]),
+        (found["stars"].star_squares, [2, 4], [3, 9], [2, 8]), (found["stars"].star_means, [2, 4], [3, 9], [2, 8]),
+        (found["stars"].triangle_doubles, [2, 4], [3, 9], [2, 8]), (found["stars"].double_pull, [3, 9]),
+        (found["stars"].square_of_double, [3, 9]), (found["stars"].four_star, web, row),
+        (found["swaps"].laid, web, web, row), (found["ways"].places_along, web, 0, [0, 1]),
+        (found["ways"].apart, web, even, [3, 2]), (found["ways"].linked, web, even, [3, 2]),
+        (found["ways"].cutting_place, web, even, [3, 2]), (found["ways"].cuts_all, web, row),
+        (found["halves"].odd_halving, web, even, other), (found["halves"].tie_halving, web, 0, other),
+        (found["excess"].excess, web, even, other), (found["excess"].excess_parts, web, even, other),
+        (found["signs"].forests, web, other), (found["signs"].sign_kept, web, web, other),
+        (found["cutsums"].cut_sum, web, 0, 2, other), (found["cutsums"].is_cut, web, other, 0, 2),
+        (found["cutsums"].least_met, web, other, 0, 2), (found["cutsums"].uncut_web, web, [3], 0, 2),
+        (found["fours"].Four, [[2, 4], 0, [3, 9], 1, 1, 1, [6, 4]]), (four.swapped, row),
+        (found["fours"].four_of, web, row), (found["fours"].four_in, spread, row),
+        (found["blockweights"].block_weights, web, row), (found["blockweights"].hosts, web, [[3, 2], [1, 0]]),
+        (found["blockweights"].product_from, web, row, other), (found["rows"].crossing_four, web, row),
+        (found["rows"].is_smooth, web, row), (found["rows"].pair_means, web, row),
+        (found["rows"].signed_pairings, [[[2, 4], 1, 2], [3, [6, 4]], [0], []]),
+        (found["rows"].pairings_of, web, row, other), (found["rows"].off, web, row, other),
+        (found["rows"].off_by_blocks, web, row, other), (found["rows"].row_chance, web, other, [1, -1]),
+        (found["rows"].row_by_pairing, web, other, [1, -1]), (found["hinges"].by_way_of, web, 4, [3, 1, 2]),
+        (found["hinges"].parts_three, web, 4, [3, 1, 2]), (found["hinges"].lean_gap, web, 4, [3, 1, 2]))
+
+
+def shown(value):
+    """What can be compared of a value: the attributes of an object, else the value itself."""
+    return vars(value) if hasattr(value, "__dict__") else value
+
+
 class TestArguments(Case):
     def test_no_argument_is_changed(self):
-        for call, *arguments in calls():
-            name = getattr(call, "__qualname__", "along")
-            with self.subTest(name):
+        for call, *arguments in calls() + later_calls():
+            with self.subTest(getattr(call, "__qualname__", "along")):
                 kept = [copy.deepcopy(one) for one in arguments]
                 first = call(*arguments)
-                self.assertEqual(arguments, kept)
+                self.assertEqual([shown(one) for one in arguments], [shown(one) for one in kept])
                 again = call(*arguments)
+                self.assertEqual(shown(again), shown(first))
                 if isinstance(first, (tuple, list, int)):
                     self.same(again, first)
                 if isinstance(first, list):
@@ -134,12 +198,17 @@ class TestArguments(Case):
         def frozen(value):
             return tuple(frozen(one) for one in value) if isinstance(value, list) else value
 
-        for call, *arguments in calls():
+        for call, *arguments in calls() + later_calls():
             with self.subTest(getattr(call, "__qualname__", "along")):
                 first, other = call(*arguments), call(*[frozen(one) for one in arguments])
-                if hasattr(first, "course"):
-                    first, other = (first.a, first.b, first.c), (other.a, other.b, other.c)
-                self.assertEqual(first, other)
+                self.assertEqual(shown(first), shown(other))
+
+    def test_each_name_that_takes_lists_is_called(self):
+        plain = {"corners", "minus_ring", "signs_saying", "beyond", "both_greater", "told_by_ties", "arms", "left_web",
+                 "as_tie", "same_rim", "ways", "cuts", "halvings", "way_bounds", "greatest_product", "is_cut_two"}
+        called = {call.__name__ for call, *_ in later_calls()}
+        names = {row.split("(")[0] for rows in list(FUNCTIONS.values())[list(FUNCTIONS).index("stretches"):] for row in rows}
+        self.assertEqual(names - called, plain)
 
     def test_keywords(self):
         found = {name: module_of(name) for name in FUNCTIONS}

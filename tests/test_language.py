@@ -37,7 +37,7 @@ NOT_STARTS = ("_wall", "_pe_", "_dcw_", "_enum_", "_cm_", "_twin_re_", "_lay_", 
 NOT_FILES = set("test tests testing site conftest sitecustomize usercustomize".split())
 FORBIDDEN = (
     ast.Global, ast.AsyncFunctionDef, ast.AsyncFor, ast.AsyncWith, ast.Await, ast.Div, ast.MatMult, ast.GeneratorExp,
-    ast.Yield, ast.YieldFrom, ast.AnnAssign, ast.With, ast.Import, ast.NamedExpr, ast.Nonlocal, ast.Set, ast.SetComp,
+    ast.YieldFrom, ast.AnnAssign, ast.With, ast.Import, ast.NamedExpr, ast.Nonlocal, ast.Set, ast.SetComp,
     ast.Match)
 
 
@@ -49,6 +49,11 @@ def arguments_of(function):
     told = function.args
     rows = told.posonlyargs + told.args + told.kwonlyargs
     return rows + [one for one in (told.vararg, told.kwarg) if one is not None]
+
+
+def is_plain(node):
+    """Whether the node is a literal value, or a tuple of such."""
+    return isinstance(node, ast.Constant) or isinstance(node, ast.Tuple) and all(is_plain(one) for one in node.elts)
 
 
 def docstrings(tree):
@@ -114,8 +119,7 @@ def check_module_level(tree):
         elif isinstance(node, ast.ImportFrom):
             names.extend(name.name for name in node.names)
         elif isinstance(node, ast.Assign):
-            if len(node.targets) != 1 or not isinstance(node.targets[0], ast.Name) \
-                    or not isinstance(node.value, ast.Constant):
+            if len(node.targets) != 1 or not isinstance(node.targets[0], ast.Name) or not is_plain(node.value):
                 found.append(f"L3 assignment in line {node.lineno}")
             else:
                 names.append(node.targets[0].id)
@@ -316,16 +320,21 @@ def calls_of(tree, name):
             if isinstance(node, ast.Call) and isinstance(node.func, ast.Name) and node.func.id == name]
 
 
-def check_iterated(tree):
-    """L23, L24: where set, zip, enumerate, range and the like stand."""
-    found = []
+def iterated_at_once(tree, words):
+    """The nodes behind the in of a loop or a comprehension, and first arguments of builtins with these names."""
     fine = set()
     for node in ast.walk(tree):
         if isinstance(node, (ast.For, ast.comprehension)):
             fine.add(id(node.iter))
-        if isinstance(node, ast.Call) and isinstance(node.func, ast.Name) and node.args \
-                and node.func.id in ("list", "tuple", "sorted", "sum", "len"):
+        if isinstance(node, ast.Call) and isinstance(node.func, ast.Name) and node.args and node.func.id in words:
             fine.add(id(node.args[0]))
+    return fine
+
+
+def check_iterated(tree):
+    """L23, L24: where set, zip, enumerate, range and the like stand."""
+    found = []
+    fine = iterated_at_once(tree, ("list", "tuple", "sorted", "sum", "len"))
     for name in ("set", "zip", "enumerate", "range", "reversed"):
         found.extend(f"L23 {name} in line {node.lineno}" for node in calls_of(tree, name) if id(node) not in fine)
     for node in ast.walk(tree):
@@ -342,12 +351,69 @@ def check_iterated(tree):
     return found
 
 
+def changed_in(node):
+    """The names of what a statement changes in place: by an item, by del or by a method that modifies."""
+    if isinstance(node, ast.Subscript) and not isinstance(node.ctx, ast.Load) and isinstance(node.value, ast.Name):
+        return [node.value.id]
+    if isinstance(node, ast.Call) and isinstance(node.func, ast.Attribute) and isinstance(node.func.value, ast.Name) \
+            and node.func.attr in ("append", "clear", "extend", "insert", "pop", "remove", "reverse", "update"):
+        return [node.func.value.id]
+    return []
+
+
+def check_loops(tree):
+    """L23: what a loop iterates over is not modified in the loop."""
+    found = []
+    for loop in ast.walk(tree):
+        if isinstance(loop, ast.For):
+            over = {node.id for node in ast.walk(loop.iter) if isinstance(node, ast.Name)}
+            for row in loop.body:
+                for node in ast.walk(row):
+                    found.extend(f"L23 loop over {name} in line {loop.lineno}" for name in changed_in(node) if name in over)
+    return found
+
+
+def yields_of(function):
+    return [node for node in ast.walk(function) if isinstance(node, ast.Yield)]
+
+
+def check_generators(tree):
+    """L23: a generator stands at module level; each yield is a statement, under no try; it returns no value."""
+    found = []
+    plain = [node for node in tree.body if isinstance(node, ast.FunctionDef)]
+    statements = {id(node.value) for node in ast.walk(tree) if isinstance(node, ast.Expr)}
+    for function in all_functions(tree):
+        for node in yields_of(function):
+            if function not in plain or id(node) not in statements or node.value is None:
+                found.append(f"L23 yield in line {node.lineno}")
+        if yields_of(function):
+            found.extend(f"L23 try in line {node.lineno}" for node in ast.walk(function) if isinstance(node, ast.Try))
+            found.extend(f"L23 return in line {node.lineno}" for node in ast.walk(function)
+                         if isinstance(node, ast.Return) and node.value is not None)
+    return found
+
+
+def check_generator_names(trees):
+    """L23: a generator has its name alone, and is only called, where it is iterated at once."""
+    found = []
+    names = [node.name for tree in trees.values() for node in ast.walk(tree) if isinstance(node, ast.FunctionDef)]
+    generators = {node.name for tree in trees.values() for node in all_functions(tree)
+                  if isinstance(node, ast.FunctionDef) and yields_of(node)}
+    found.extend(f"L23 name {name}" for name in generators if names.count(name) > 1 or name in METHODS)
+    for name, tree in trees.items():
+        fine = iterated_at_once(tree, ("list", "tuple"))
+        called = {id(node.func) for node in ast.walk(tree) if isinstance(node, ast.Call) and id(node) in fine}
+        found.extend(f"L23 {node.id} in {name}, line {node.lineno}" for node in ast.walk(tree)
+                     if isinstance(node, ast.Name) and node.id in generators and id(node) not in called)
+    return found
+
+
 def check_source(text):
     """All that one file can break by itself."""
     tree = ast.parse(text)
     found = check_text(text)
     for check in (check_imports, check_module_level, check_nodes, check_handlers, check_functions, check_names,
-                  check_classes, check_iterated):
+                  check_classes, check_iterated, check_generators, check_loops):
         found.extend(check(tree))
     return found + check_strings(text, tree)
 
@@ -383,6 +449,9 @@ class TestPackage(unittest.TestCase):
 
     def test_methods(self):
         self.assertEqual(check_methods(self.trees), [])
+
+    def test_generators(self):
+        self.assertEqual(check_generator_names(self.trees), [])
 
     def imports_of(self, name):
         return [node for node in self.trees[name].body
@@ -466,6 +535,21 @@ class TestChecks(unittest.TestCase):
                 ("L27", "X = " + "1" + "0" * 900 + "\n")):
             with self.subTest(text):
                 self.assertTrue(any(rule in row for row in check_source(text)), check_source(text))
+
+    def test_bad_generators(self):
+        for text in ("def f(x):\n    y = yield x\n", "def f(x):\n    yield x\n    return x\n",
+                     "class A:\n    def f(self):\n        yield self\n",
+                     "def f(x):\n    try:\n        yield x\n    except Bad:\n        pass\n"):
+            self.assertTrue(any("L23" in row for row in check_source(text)), text)
+        good = "def f(x):\n    yield x\n\n\ndef g(x):\n    return [y for y in f(x)]\n"
+        self.assertEqual(check_generator_names({"a.py": ast.parse(good)}), [])
+        for text in ("def h(x):\n    y = f(x)\n    return y\n", "def h(x):\n    return x in f(x)\n", "def f(x):\n    return x\n"):
+            self.assertEqual(len(check_generator_names({"a.py": ast.parse(good), "b.py": ast.parse(text)})), 1)
+
+    def test_bad_loops(self):
+        for text in ("for x in xs:\n        xs.append(x)", "for k, x in enumerate(xs):\n        xs[k] = x",
+                     "for x in zip(ys, xs):\n        if x:\n            del xs[0]", "for x in xs:\n        xs[0] += 1"):
+            self.assertTrue(any("L23 loop" in row for row in check_source(f"def f(xs, ys):\n    {text}\n")), text)
 
     def test_bad_method(self):
         self.assertEqual(check_methods({"a.py": ast.parse("X = b.encode()\n")}), ["L25 encode in a.py, line 1"])
