@@ -11,9 +11,8 @@ from leanwebs.webs import Web
 
 MOST_ARMS = 2
 MOST_TOUCHED = 3
-TINY = (1, 1000000000)
-HALF = (1, 2)
-NEAR = (999999999, 1000000000)
+# The pulls of nearly a star around a piece, by the number of ends of a tie in the piece.
+STAR_PULLS = ((1, 1000000000), (1, 2), (999999999, 1000000000))
 
 
 def arms(web, place):
@@ -70,24 +69,6 @@ def always_webs(web, lot):
     return all([len(met) <= MOST_TOUCHED for _, met in touched(web, lot)])
 
 
-def star_pulls(web, piece, four):
-    """Return pulls with which the piece is nearly the middle of a star with arms to the four places."""
-    pulls = []
-    tree = []
-    reached = []
-    for u, v, _ in web.ties:
-        outer = [place for place in (u, v) if place not in piece]
-        if not outer and len(parts_of(piece, tree + [(u, v)])) < len(parts_of(piece, tree)):
-            tree.append((u, v))
-            pulls.append(NEAR)
-        elif len(outer) == 1 and outer[0] in four and outer[0] not in reached:
-            reached.append(outer[0])
-            pulls.append(HALF)
-        else:
-            pulls.append(TINY)
-    return pulls
-
-
 def spoiling_pulls(web, lot):
     """Return a positive web of the shape whose spread, left out the lot, is no web's; None if there is none."""
     if web.many > MOST_SPREAD:
@@ -96,6 +77,8 @@ def spoiling_pulls(web, lot):
         raise BadLot()
     for piece, met in touched(web, lot):
         if len(met) > MOST_TOUCHED:
-            # A star with four arms, its middle left out, is no web's; pulls as near to it as these do not change that.
-            return with_pulls(web, star_pulls(web, piece, met[:4]))
+            # A star with four arms or more, its middle left out, is no web's; with these pulls the piece is so nearly
+            # one place, and all that is not at it so nearly without ties, that the boxes still differ.
+            inside = [len([place for place in (u, v) if place in piece]) for u, v, _ in web.ties]
+            return with_pulls(web, [STAR_PULLS[count] for count in inside])
     return None

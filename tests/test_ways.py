@@ -63,6 +63,9 @@ class TestWays(Case):
         many = Web(4, [(k // 3, k // 3 + 1, HALF) for k in range(9)])
         self.same(len(ways(many, 0, 3)), 27)
         self.raises(TooMany(27, 26), ways, many, 0, 3, most=26)
+        with self.assertRaises(TooMany) as held:
+            ways(many, 0, 3, most=MyInt(2))
+        self.plain([held.exception.many, held.exception.most])
         for most in NO_INTEGERS + (-1, -10 ** 20):
             self.raises(BadCount(), ways, RING, 0, 2, most=most)
             self.raises(BadPlace(), ways, RING, 0, 0, most=most)
