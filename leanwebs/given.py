@@ -3,10 +3,10 @@
 from leanwebs.along import need_row
 from leanwebs.bundles import need_few_ties
 from leanwebs.errors import BadPlace, BadRow, TooMany
-from leanwebs.lots import is_place
+from leanwebs.lots import even_lots, is_place
 from leanwebs.pieces import parts_of
-from leanwebs.ratios import is_row
-from leanwebs.sums import means
+from leanwebs.ratios import is_row, lowest, over_common
+from leanwebs.sums import index_of_no, means, signed_sums
 from leanwebs.webs import Web
 
 MOST_SMALL = 6
@@ -53,6 +53,13 @@ def four_places(four, many):
 def means_by_lot(web):
     """Return a dict of the means of all even lots."""
     return {lot: told for lot, told in means(web)}
+
+
+def means_in(spread):
+    """Return a dict of the means of all even lots of a spread."""
+    tops, bottom = over_common(spread.rows)
+    sums = signed_sums(tops)
+    return {lot: lowest(sums[index_of_no(lot, spread.many)], bottom) for lot in even_lots(spread.many)}
 
 
 def with_pulls(web, pulls):

@@ -233,6 +233,64 @@ def means_told(web):
             for lot in all_even(web.many)}
 
 
+def some_rows(numbers, many, count):
+    """Rows of a sum: even lots, some of them twice, not in order; ratios of all signs, 0, not in lowest terms."""
+    found = []
+    for _ in range(count):
+        lot = numbers.even(many)
+        found.append([list(lot[::-1]), [numbers.below(7) - 3, 1 + numbers.below(4)]])
+    return found
+
+
+def cleared_told(rows):
+    """The cleared rows, as a tuple of (lot, fraction)."""
+    sums = {}
+    for lot, told in rows:
+        lot = tuple(sorted(lot))
+        sums[lot] = sums.get(lot, 0) + (told if isinstance(told, int) else fraction(told))
+    return tuple((lot, sums[lot]) for lot in sorted(sums, key=lambda lot: (len(lot), lot)) if sums[lot])
+
+
+def value_told(lot, rows, parting, saying=None):
+    """The value of a sum with this lot and these rows at the parting, and the saying."""
+    if not is_even_in(lot, parting):
+        return Fraction(0)
+    return sum((told * (sign_of_lot(saying, row) if saying else 1) for row, told in cleared_told(rows)
+                if is_even_in(row, parting)), Fraction(0))
+
+
+def trimmed(row):
+    while row and row[-1] == 0:
+        row = row[:-1]
+    return row
+
+
+def remainder(row, other):
+    row = list(row)
+    while len(row) >= len(other):
+        factor = row[-1] / other[-1]
+        for k in range(len(other)):
+            row[len(row) - len(other) + k] -= factor * other[k]
+        row = trimmed(row[:-1])
+    return trimmed(row)
+
+
+def all_real(row):
+    """Whether a polynomial, lowest power first, has only real roots or is constant: Sturm's rows, without many roots."""
+    row = trimmed(row)
+    if len(row) < 2:
+        return True
+    rows = [row, [k * told for k, told in enumerate(row)][1:]]
+    while rows[-1]:
+        rows.append([-told for told in remainder(rows[-2], rows[-1])])
+    rows = rows[:-1]
+    high = [one[-1] > 0 for one in rows]
+    low = [(one[-1] > 0) == (len(one) % 2 == 1) for one in rows]
+    changes = sum(a != b for a, b in zip(low, low[1:])) - sum(a != b for a, b in zip(high, high[1:]))
+    # The last row has just the many roots, each once less; all distinct roots have to be real.
+    return changes == len(row) - len(rows[-1])
+
+
 class Case(unittest.TestCase):
     """A test that can ask for an error with its attributes."""
 

@@ -334,7 +334,7 @@ def iterated_at_once(tree, words):
 def check_iterated(tree):
     """L23, L24: where set, zip, enumerate, range and the like stand."""
     found = []
-    fine = iterated_at_once(tree, ("list", "tuple", "sorted", "sum", "len"))
+    fine = iterated_at_once(tree, ("list", "tuple", "sorted", "sum", "len", "enumerate", "zip"))
     for name in ("set", "zip", "enumerate", "range", "reversed"):
         found.extend(f"L23 {name} in line {node.lineno}" for node in calls_of(tree, name) if id(node) not in fine)
     for node in ast.walk(tree):
