@@ -1,6 +1,6 @@
 """Layings of webs on surfaces: ring orders, faces, handles, cuts of faces, and the twin."""
 
-from leanwebs.errors import BadLaying, BadLot, BadPlace, NoTie, TooMany
+from leanwebs.errors import BadLaying, BadLot, BadPlace, NoTie
 from leanwebs.lots import distinct_numbers, is_place
 from leanwebs.pieces import need_hanging, need_positive
 from leanwebs.ratios import is_row, lowest
@@ -105,9 +105,7 @@ class Laying:
         return tuple([k for k in range(len(self.web.ties)) if (2 * k in inside) != (2 * k + 1 in inside)])
 
     def twin(self):
-        """Return the twin: its places are the faces."""
-        if len(self.faces) > Web.most_places:
-            raise TooMany(len(self.faces), Web.most_places)
+        """Return the twin: its places are the faces; a web with too many of them raises TooMany."""
         ties = [(self.face_of(2 * k), self.face_of(2 * k + 1), twin_of(t)) for k, (_, _, t) in enumerate(self.web.ties)]
         return Laying(Web(len(self.faces), ties), self.faces)
 

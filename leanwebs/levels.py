@@ -29,16 +29,8 @@ def row_told(row):
     return found
 
 
-def without_end(row):
-    """Return the row without the numbers 0 at its end."""
-    kept = len(row)
-    while row[kept - 1] == (0, 1):
-        kept = kept - 1
-    return row[:kept]
-
-
 def discriminant(row):
-    """Return the number that a row of three or of four numbers must not have below 0 to be level."""
+    """Return the number that is not below 0 for a level row of three or of four numbers."""
     if len(row) == 3:
         return minus(times(row[1], row[1]), product_over([(4, 1), row[0], row[2]]))
     a, b, c, d = row
@@ -49,9 +41,10 @@ def discriminant(row):
 
 def is_level(row):
     """Return whether the row is level."""
-    found = without_end(row_told(row))
+    found = row_told(row)
     if not all([sign_of(entry) >= 0 for entry in found]):
         return False
+    # A number 0 at the end need not be left out: it makes the discriminant a square, or a square times that without it.
     return len(found) < 3 or sign_of(discriminant(found)) >= 0
 
 

@@ -4,7 +4,7 @@ from leanwebs.cutstold import entries_of
 from leanwebs.errors import BadRatio, BadTable
 from leanwebs.fours import Four
 from leanwebs.lots import sayings
-from leanwebs.ratios import at_most, is_ratio, minus, plus, ratio_of, sign_of, sum_of, times
+from leanwebs.ratios import at_most, minus, ratio_of, sign_of, sum_of, times
 from leanwebs.spreads import pairs_of, spread_of_means
 from leanwebs.stars import sums_of_three
 
@@ -83,7 +83,7 @@ def spread_with(table, whole):
     """Return the spread of four places with this table and this mean of all four."""
     numbers = table_four(table)
     low, high = limits_of(numbers)
-    if not is_ratio(whole) or at_most(whole, low) or at_most(high, whole):
+    if at_most(whole, low) or at_most(high, whole):
         raise BadRatio()
     return spread_of_means(4, [(pair, told) for pair, told in numbers.items()] + [(FOUR, whole)])
 

@@ -19,8 +19,8 @@ def cleared(rows, many):
     for lot, ratio in rows:
         found = even_lot_of(lot, many)
         sums[found] = plus(sums.get(found, (0, 1)), ratio)
-    order = sorted(list(sums), key=lambda lot: (len(lot), lot))
-    return tuple([(lot, sums[lot]) for lot in order if sums[lot] != (0, 1)])
+    order = sorted([(len(lot), lot) for lot in sums])
+    return tuple([(lot, sums[lot]) for _, lot in order if sums[lot] != (0, 1)])
 
 
 def scaled(rows, factor):

@@ -4,6 +4,7 @@ import itertools
 import unittest
 from fractions import Fraction
 
+from leanwebs.layings import Laying, plain_laying
 from leanwebs.webs import Web
 
 
@@ -76,6 +77,9 @@ LEAN = (
             (1, 4, HALF), (2, 5, (1, 6))]),
     Web(6, [(0, 1, HALF), (1, 2, (1, 3)), (2, 3, HALF), (3, 4, (1, 4)), (4, 5, HALF), (5, 0, (1, 5)), (1, 0, (1, 7))]),
 )
+# Positive webs that hang together and have ties, to be laid; one place with loops has many handles in some layings.
+LAID = LEAN[1:] + (Web(1, [(0, 0, (1, 2 + k)) for k in range(4)]), Web(2, [(0, 1, (1, 2 + k)) for k in range(5)]),
+                   Web(2, [(0, 1, HALF), (0, 0, (1, 3)), (1, 1, (2, 3)), (1, 0, (1, 4)), (0, 0, (2, 5))]))
 WIDE = Web(10, [(k, (3 * k + 1) % 10, (2 * k - 9, 11)) for k in range(10)])
 
 
@@ -289,6 +293,27 @@ def all_real(row):
     changes = sum(a != b for a, b in zip(low, low[1:])) - sum(a != b for a, b in zip(high, high[1:]))
     # The last row has just the many roots, each once less; all distinct roots have to be real.
     return changes == len(row) - len(rows[-1])
+
+
+def ends_at(web, place):
+    """The ends at a place, ascending: 2k and 2k + 1 for tie k."""
+    return [2 * k + side for k, tie in enumerate(web.ties) for side in (0, 1) if tie[side] == place]
+
+
+def some_orders(numbers, web):
+    """Ring orders of the web, each in some order."""
+    found = []
+    for place in range(web.many):
+        left, order = ends_at(web, place), []
+        while left:
+            order.append(left.pop(numbers.below(len(left))))
+        found.append(order)
+    return found
+
+
+def layings_of(web, count):
+    """The plain laying of the web, and some more."""
+    return [plain_laying(web)] + [Laying(web, some_orders(Numbers(seed), web)) for seed in range(count)]
 
 
 class Case(unittest.TestCase):

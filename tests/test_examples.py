@@ -1,4 +1,5 @@
-"""The examples of the document for the modules there are, in [15], [22], [41], [54], [71] and [85]."""
+"""The examples of the document for the modules there are, in [15], [22], [41], [54], [71], [85], [100], [114],
+[133] and [147]."""
 
 import unittest
 
@@ -114,6 +115,83 @@ from leanwebs.rows import row_by_pairing, signed_pairings
 web = Web.ring((1, 2), (1, 2), (1, 2), (1, 2))
 (signed_pairings([[1, 2, 3], [4, 5], [6], []]), row_by_pairing(web, (0, 2), (1, -1)))""",
      "((8, 1), (9, 68))"),
+    ("""from leanwebs.webs import Web
+from leanwebs.worths import TwoSum
+from leanwebs.holding import holds, is_identity, never_zero
+one = TwoSum(3, (0, 2), [((), 1), ((0, 1), -1)])
+line, ring = Web.line((1, 2), (1, 3)), Web.ring((1, 2), (1, 2), (1, 2))
+(one.worth(line), is_identity(one, line), one.worth(ring), holds(one, ring), never_zero(one, ring))""",
+     "((0, 1), True, (2, 9), True, True)"),
+    ("""from leanwebs.webs import Web
+from leanwebs.worths import TwoSum
+from leanwebs.holding import breaking, breaking_web
+one = -TwoSum(3, (0, 2), [((), 1), ((0, 1), -1)])
+ring = Web.ring((1, 2), (1, 2), (1, 2))
+(breaking(one, ring), breaking_web(one, ring).ties)""",
+     "(((0, 2), (1,)), ((0, 1, (0, 1)), (1, 2, (0, 1)), (2, 0, (1, 2))))"),
+    ("""from leanwebs.fourlist import four_sum
+from leanwebs.rims import breaking_at_rims, is_rim_identity
+one = four_sum(1, -1, 1, -1)
+(is_rim_identity(one, (0, 1, 2, 3)), breaking_at_rims(-one, (0, 2, 1, 3)))""",
+     "(True, ((0, 2), (1, 3)))"),
+    ("""from leanwebs.fourlist import four_holds, least_breaking
+(four_holds(1, -1, 1, -1), least_breaking(-1, 1, 1, 0).ties)""",
+     "(True, ((0, 3, (1, 2)), (1, 2, (1, 2))))"),
+    ("""from leanwebs.spreads import spread_of_means
+from leanwebs.rounds import is_round
+from leanwebs.lines import breaks, f_at, line_numbers
+one = spread_of_means(4, [((0, 1), (1, 4)), ((2, 3), (1, 4))])
+numbers = line_numbers(one, (0, 0, 3, 3), 0, 1, 1)
+(is_round(one), f_at(one, (0, 0, 3, 3)), numbers, breaks(numbers))""",
+     "(False, (-5, 4), ((-5, 4), (0, 1), (-1, 4)), True)"),
+    ("""from leanwebs.webs import Web
+from leanwebs.spreads import Spread
+from leanwebs.rounds import all_rates, is_round
+from leanwebs.levels import level_gaps, rates_row
+one = Spread.of(Web.ring((1, 2), (1, 2), (1, 2), (1, 2)))
+row = rates_row(one, (1, 1, 1, 1))
+(row, level_gaps(row), is_round(one), all_rates(one))""",
+     "(((1, 1), (56, 17), (8, 17)), ((2592, 289),), True, True)"),
+    ("""from leanwebs.webs import Web
+from leanwebs.spreads import Spread
+from leanwebs.lines import along_line
+from leanwebs.rounds import closes
+one = Spread.of(Web.line((1, 2), (1, 3)))
+(along_line(one, (1, 0, 0), (1, 1, 1)), closes((9, 100), (1, 100), (1, 100), (1, 100)))""",
+     "(((1, 1), (-2, 3), (-1, 1), (0, 1)), True)"),
+    ("""from leanwebs.webs import Web
+from leanwebs.layings import plain_laying
+laying = plain_laying(Web.ring((1, 2), (1, 2), (1, 2)))
+(laying.faces, laying.handles, laying.at_face(1), laying.twin().web.ties)""",
+     "(((0, 2, 4), (1, 5, 3)), 0, (1, 0, 2), ((0, 1, (1, 3)), (0, 1, (1, 3)), (0, 1, (1, 3))))"),
+    ("""from leanwebs.webs import Web
+from leanwebs.layings import Laying
+from leanwebs.classes import classes, mean_by_twins
+from leanwebs.twins import contrary_total
+web = Web(2, [(0, 1, (1, 2)), (0, 1, (1, 3)), (0, 1, (1, 5))])
+laying = Laying(web, [[0, 2, 4], [1, 3, 5]])
+(laying.faces, laying.handles, classes(laying), contrary_total(laying, (0,)), mean_by_twins(laying, (0, 1)))""",
+     "(((0, 3, 4, 1, 2, 5),), 1, [(), (0, 1), (0, 2), (1, 2)], (10, 3), (4, 5))"),
+    ("""from leanwebs.webs import Web
+from leanwebs.layings import plain_laying
+from leanwebs.turnedpictures import picture_in_twin
+laying = plain_laying(Web.ring((1, 2), (1, 2), (1, 2)))
+(picture_in_twin(laying, (0, 1, 2), (0, 1, 2)), picture_in_twin(laying, (0,), (0, 1)))""",
+     "((1, 9), (0, 1))"),
+    ("""from leanwebs.webs import Web
+from leanwebs.cutstold import table_of, told_between, told_firm
+from leanwebs.trees import tree_told
+table = table_of(Web.line((1, 2), (1, 3)))
+(table, told_between(3, table, 0, 2), told_firm(3, table), tree_told(3, table).ties)""",
+     "(((1, 2), (1, 6), (1, 3)), (0, 1, 2), ((0, 1), (1, 2)), ((0, 1, (1, 2)), (1, 2, (1, 3))))"),
+    ("""from leanwebs.tables import between, broken_three
+(between([(1, 2)] * 6), broken_three([(-1, 2)] * 6))""",
+     "(((0, 1), (1, 1)), ((0, 1, 2), 0))"),
+    ("""from leanwebs.webs import Web
+from leanwebs.portraits import seen_portrait
+seen = seen_portrait(Web.star((1, 2), (1, 2), (1, 2)), (0, 1, 2, 3))
+(seen.cutting, seen.links, seen.hinges)""",
+     "(((0, 1, 2), (0, 1, 3), (0, 2, 3)), ((False, False, False),), ((0, (1, 2, 3)),))"),
 )
 
 

@@ -53,7 +53,32 @@ FUNCTIONS = {
              "pairings_of(web, row, lot)", "off(web, row, lot)", "off_by_blocks(web, row, lot)",
              "row_chance(web, row, said)", "row_by_pairing(web, row, said)"),
     "hinges": ("by_way_of(web, hinge, three)", "parts_three(web, hinge, three)", "lean_gap(web, hinge, three)"),
+    "partings": ("partings(places)", "even_in(parting, lot)", "hanging_partings(web)", "smooth_partings(row)",
+                 "glued_web(web, parting, pull)"),
+    "worths": (),
+    "holding": ("breaking(one, web)", "holds(one, web)", "is_identity(one, web)", "never_zero(one, web)",
+                "breaking_web(one, web)"),
+    "rims": ("holds_at_rims(one, row)", "breaking_at_rims(one, row)", "is_rim_identity(one, row)",
+             "rim_web(many, row, parting, pull)"),
+    "fourlist": ("four_holds(m, p, q, r)", "least_breaking(m, p, q, r)", "four_sum(m, p, q, r)"),
+    "rounds": ("closes(m, p, q, r)", "one_closes(m, p, q, r)", "is_round(spread)", "all_rates(spread)",
+               "round_for_all(web)", "unround_sizes(web)"),
+    "lines": ("f_at(spread, x)", "line_numbers(spread, x, u, v, k)", "breaks(numbers)", "breaking_line(spread)",
+              "along_line(spread, x, d)"),
+    "levels": ("rates_row(spread, rates)", "is_level(row)", "level_gaps(row)", "common_round(spread)"),
+    "layings": ("plain_laying(web)",),
+    "twins": ("twin_pull(pull)", "two_sides(pull)", "twin_factor(laying)", "contrary_total(laying, bundle)"),
+    "classes": ("same_class(laying, bundle, other)", "class_sum(laying, bundle)", "classes(laying)",
+                "total_by_twins(laying)", "mean_by_twins(laying, lot)"),
+    "turnedpictures": ("picture_in_web(laying, inner, bundle)", "picture_in_twin(laying, inner, bundle)"),
+    "cutstold": ("table_of(web)", "entry(many, table, u, v)", "told_cut(many, table, x, u, w)",
+                 "told_between(many, table, u, w)", "told_firm(many, table)", "firm_lots(web)"),
+    "trees": ("heaviest_tree(many, table)", "tree_told(many, table)"),
+    "tables": ("triangle_sums(m12, m13, m23)", "comes_three(m12, m13, m23)", "comes_plainly(m12, m13, m23)",
+               "broken_three(table)", "between(table)", "spread_with(table, whole)", "bounds(table)"),
+    "portraits": ("told_portrait(spread)", "seen_portrait(web, kept)"),
 }
+OF_SUMS = ("__add__(self, other)", "__neg__(self)", "__mul__(self, other)", "__eq__(self, other)", "__len__(self)")
 CLASSES = {
     ("webs", "Web"): ("__init__(self, many, ties)", "pull(self, number)", "ends(self, number)",
                       "with_pull(self, number, pull)", "with_tie(self, u, v, pull)", "without(self, bundle)",
@@ -68,8 +93,22 @@ CLASSES = {
     ("stretches", "Stretches"): ("__init__(self, rows)", "agrees(self, web)", "lows(self, web)", "highs(self, web)",
                                  "sizes_low(self, web)", "sizes_high(self, web)"),
     ("fours", "Four"): ("__init__(self, seven)", "by_way(self, k)", "swapped(self, order)"),
+    ("worths", "Sum"): ("__init__(self, many, lot, rows)", "__len__(self)"),
+    ("worths", "OneSum"): ("__init__(self, many, rows)", "worth(self, web)", "at_parting(self, parting)") + OF_SUMS,
+    ("worths", "TwoSum"): ("__init__(self, many, lot, rows)", "worth(self, web)", "at_parting(self, parting)",
+                           "by_weights(self, web)") + OF_SUMS,
+    ("worths", "PairSum"): ("__init__(self, many, lot, rows)", "worth(self, web, other)",
+                            "at_parting(self, parting, saying)") + OF_SUMS,
+    ("layings", "Laying"): ("__init__(self, web, orders)", "face_of(self, end)", "at_face(self, number)",
+                            "cut(self, lot)", "twin(self)", "__eq__(self, other)"),
+    ("portraits", "Portrait"): ("__init__(self, many, cutting, links, hinges)", "__eq__(self, other)"),
 }
-PROPERTIES = {("webs", "Web"): ("shape", "positive"), ("along", "Along"): ("course",)}
+PROPERTIES = {("webs", "Web"): ("shape", "positive"), ("along", "Along"): ("course",),
+              ("layings", "Laying"): ("handles", "plane")}
+ATTRIBUTES = {("worths", "OneSum"): ("many", "lot", "rows"), ("worths", "TwoSum"): ("many", "lot", "rows"),
+              ("worths", "PairSum"): ("many", "lot", "rows"), ("layings", "Laying"): ("web", "orders", "faces"),
+              ("portraits", "Portrait"): ("many", "cutting", "links", "hinges")}
+MADE = {"OneSum": (2, []), "TwoSum": (2, (), []), "PairSum": (2, (), []), "Portrait": (0, (), (), ())}
 
 
 def module_of(name):
@@ -97,6 +136,21 @@ class TestInterface(Case):
                     self.assertEqual(word + str(inspect.signature(getattr(made, word))), row)
             for word in PROPERTIES.get((name, title), ()):
                 self.assertIsInstance(vars(made)[word], property)
+
+    def test_attributes(self):
+        for (name, title), words in ATTRIBUTES.items():
+            web = module_of("webs").Web.line(HALF)
+            made = getattr(module_of(name), title)(*MADE.get(title, (web, [[0], [1]])))
+            self.assertEqual(tuple(vars(made)), words)
+
+    def test_sums_have_one_base(self):
+        found = module_of("worths")
+        for made in (found.OneSum, found.TwoSum, found.PairSum):
+            self.assertEqual(made.__bases__, (found.Sum,))
+
+    def test_each_module(self):
+        self.assertEqual(len(FUNCTIONS), 45)
+        self.assertEqual({name for name, _ in CLASSES} - set(FUNCTIONS), set())
 
     def test_errors_have_the_one_file(self):
         for name in FUNCTIONS:
@@ -175,6 +229,52 @@ def later_calls():
         (found["hinges"].parts_three, web, 4, [3, 1, 2]), (found["hinges"].lean_gap, web, 4, [3, 1, 2]))
 
 
+def listed(places):
+    """The partings of places; a generator's own call makes none yet."""
+    return list(module_of("partings").partings(places))
+
+
+def last_calls():
+    """The same for the modules from partings on."""
+    found = {name: module_of(name) for name in FUNCTIONS}
+    web = found["webs"].Web(4, [[0, 1, [2, 4]], [1, 2, [3, 9]], [2, 3, [1, 4]], [3, 0, [2, 9]], [0, 1, [2, 6]]])
+    worths, spread, parting, row = found["worths"], found["spreads"].Spread.of(web), [[3, 1], [2, 0]], [3, 0, 2, 1]
+    rows, bundle, table = [[[1, 0], [2, 4]], [[], -1], [[0, 1], 1]], [2, 0], [[2, 4], 0, [3, 9], [1, 5], 0, [2, 9]]
+    one, two, pair = worths.OneSum(4, rows), worths.TwoSum(4, row, rows), worths.PairSum(4, row, rows)
+    orders = [[7, 0, 8], [2, 9, 1], [4, 3], [6, 5]]
+    laying, spread_table = found["layings"].Laying(web, orders), [[2, 4]] * 6
+    classes, told, tables = found["classes"], found["cutstold"], found["tables"]
+    return (
+        (listed, [4, 2, 7]), (found["partings"].even_in, parting, [2, 0, 5]), (found["partings"].smooth_partings, row),
+        (found["partings"].glued_web, web, parting, [2, 4]), (worths.OneSum, 4, rows), (worths.TwoSum, 4, row, rows),
+        (worths.PairSum, 4, row, rows), (one.__mul__, [2, 4]), (one.at_parting, parting), (two.at_parting, parting),
+        (pair.at_parting, parting, [1, -1, 1, 1]), (one.worth, web), (two.worth, web), (two.by_weights, web),
+        (pair.worth, web, web), (found["holding"].breaking, two, web), (found["holding"].holds, pair, web),
+        (found["holding"].is_identity, two, web), (found["holding"].never_zero, one, web),
+        (found["holding"].breaking_web, one, web), (found["rims"].holds_at_rims, two, row),
+        (found["rims"].breaking_at_rims, two, row), (found["rims"].is_rim_identity, two, row),
+        (found["rims"].rim_web, 4, row, [[3, 0], [2], [1]], [2, 4]), (found["fourlist"].four_holds, [2, 4], 0, [-3, 9], 1),
+        (found["fourlist"].least_breaking, [2, 4], 0, [-9, 9], 1), (found["fourlist"].four_sum, [2, 4], 0, [-3, 9], 1),
+        (found["rounds"].closes, [2, 4], 0, [3, 9], 1), (found["rounds"].one_closes, [2, 4], 0, [3, 9], 1),
+        (found["lines"].f_at, spread, [[2, 4], 0, 1, -1]), (found["lines"].breaks, [[2, 4], 0, 1]),
+        (found["lines"].line_numbers, spread, [[2, 4], 0, 1, -1], 1, 0, [6, 4]),
+        (found["lines"].along_line, spread, [[2, 4], 0, 1, -1], [0, [2, 4], 1, 0]),
+        (found["levels"].rates_row, spread, [[2, 4], 2, 1, 1]), (found["levels"].is_level, [1, [6, 4], [2, 4]]),
+        (found["levels"].level_gaps, [1, [6, 4], [2, 4]]), (found["layings"].Laying, web, orders), (laying.cut, [1, 0]),
+        (found["twins"].twin_pull, [2, 4]), (found["twins"].two_sides, [2, 4]),
+        (found["twins"].contrary_total, laying, bundle), (classes.same_class, laying, bundle, [3, 1]),
+        (classes.class_sum, laying, bundle), (classes.mean_by_twins, laying, [2, 0]), (classes.classes, laying),
+        (found["turnedpictures"].picture_in_web, laying, [4, 0], [4, 0, 1]),
+        (found["turnedpictures"].picture_in_twin, laying, [4, 0], [4, 0, 1]), (told.entry, 4, table, 3, 0),
+        (told.told_cut, 4, table, 3, 0, 1), (told.told_between, 4, table, 3, 0), (told.told_firm, 4, table),
+        (told.table_of, web), (told.firm_lots, web), (found["trees"].heaviest_tree, 4, spread_table),
+        (found["trees"].tree_told, 3, [[2, 4], [3, 12], [2, 4]]), (tables.triangle_sums, [2, 4], 0, [3, 9]),
+        (tables.comes_three, [2, 4], 0, [3, 9]), (tables.comes_plainly, [2, 4], 0, [3, 9]), (tables.broken_three, table),
+        (tables.between, spread_table), (tables.spread_with, spread_table, [2, 4]), (tables.bounds, table),
+        (found["portraits"].Portrait, 4, [[0, 1, 2]], [[True, False, False]], [[0, [1, 2, 3]]]),
+        (found["portraits"].seen_portrait, web, row))
+
+
 def shown(value):
     """What can be compared of a value: the attributes of an object, else the value itself."""
     return vars(value) if hasattr(value, "__dict__") else value
@@ -182,7 +282,7 @@ def shown(value):
 
 class TestArguments(Case):
     def test_no_argument_is_changed(self):
-        for call, *arguments in calls() + later_calls():
+        for call, *arguments in calls() + later_calls() + last_calls():
             with self.subTest(getattr(call, "__qualname__", "along")):
                 kept = [copy.deepcopy(one) for one in arguments]
                 first = call(*arguments)
@@ -198,15 +298,17 @@ class TestArguments(Case):
         def frozen(value):
             return tuple(frozen(one) for one in value) if isinstance(value, list) else value
 
-        for call, *arguments in calls() + later_calls():
+        for call, *arguments in calls() + later_calls() + last_calls():
             with self.subTest(getattr(call, "__qualname__", "along")):
                 first, other = call(*arguments), call(*[frozen(one) for one in arguments])
                 self.assertEqual(shown(first), shown(other))
 
     def test_each_name_that_takes_lists_is_called(self):
         plain = {"corners", "minus_ring", "signs_saying", "beyond", "both_greater", "told_by_ties", "arms", "left_web",
-                 "as_tie", "same_rim", "ways", "cuts", "halvings", "way_bounds", "greatest_product", "is_cut_two"}
-        called = {call.__name__ for call, *_ in later_calls()}
+                 "as_tie", "same_rim", "ways", "cuts", "halvings", "way_bounds", "greatest_product", "is_cut_two",
+                 "partings", "hanging_partings", "is_round", "all_rates", "round_for_all", "unround_sizes",
+                 "breaking_line", "common_round", "plain_laying", "twin_factor", "total_by_twins", "told_portrait"}
+        called = {call.__name__ for call, *_ in later_calls() + last_calls()}
         names = {row.split("(")[0] for rows in list(FUNCTIONS.values())[list(FUNCTIONS).index("stretches"):] for row in rows}
         self.assertEqual(names - called, plain)
 

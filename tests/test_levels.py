@@ -83,9 +83,10 @@ class TestIsLevel(Case):
             self.same(all(told), len(set(roots)) == 3)
 
     def test_known(self):
-        self.same([is_level(row) for row in ((5,), (1, 0), [1, -1], (1, 2, 1), (1, [199, 100], 1), (1, 3, 3, 1), (1, 3, 3, 2),
-                                             (1, 3, 3, 0), (1, 4, 4, 0), (1, 2, 0, 0), (1, 0, 0, 0), (1, 0, 1), (1, 0, 0, 1))],
-                  [True, True, False, True, False, True, False, False, True, True, True, False, False])
+        for row in ((5,), (1, 0), (1, 2, 1), [1, 3, 3, 1], (1, 4, 4, 0), (1, 2, 0, 0), (1, 0, 0, 0)):
+            self.same(is_level(row), True)
+        for row in ([1, -1], (1, [199, 100], 1), (1, 3, 3, 2), (1, 3, 3, 0), (1, 0, 1), (1, 0, 0, 1)):
+            self.same(is_level(row), False)
 
     def test_wrong(self):
         for row in NO_ROWS:

@@ -74,8 +74,8 @@ class TestCloses(Case):
                 self.same(one_closes(*told), singles[0])
 
     def test_just_equal(self):
-        for told in ((9, 1, 1, 1), (8, 2, 2, 0), (18, 2, 8, 0), (0, 0, 0, 0), (5, 5, 0, 0), (12, 3, 3, 0), ((9, 4), (1, 4), 1, 0),
-                     (50, 2, 8, 8), (27, 3, 3, 3)):
+        for told in ((9, 1, 1, 1), (8, 2, 2, 0), (18, 2, 8, 0), (0, 0, 0, 0), (5, 5, 0, 0), (12, 3, 3, 0),
+                     ((9, 4), (1, 4), 1, 0), (50, 2, 8, 8), (27, 3, 3, 3)):
             for order in itertools.permutations(told):
                 self.same(closes(*order), True)
                 self.same(one_closes(*order), True)
